@@ -38,7 +38,7 @@ def msvc_struct(shapes):
             unit = 0
         elif bits is not None and unit == size and used + bits <= 8 * size:
             positions.append(8 * (octet - size) + used)
-            used += bits
+            used = used + bits
         else:
             octet = up(octet, alignment)
             positions.append(8 * octet)
