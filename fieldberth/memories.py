@@ -1,7 +1,7 @@
 """Memories: rows of octets that are read, written and moved."""
 
 from fieldberth.basics import is_whole
-from fieldberth.errors import BadAddress, BadOctet
+from fieldberth.errors import BadAddress, BadOctet, BadSize
 
 
 class Memory:
@@ -65,3 +65,11 @@ def checked_octets(octets):
         if not is_octet(value):
             raise BadOctet(value)
     return list(octets)
+
+
+def sized_octets(octets, size):
+    """Return a new list of octets; raise BadOctet, then BadSize if there are not so many."""
+    checked = checked_octets(octets)
+    if len(checked) != size:
+        raise BadSize(len(checked))
+    return checked

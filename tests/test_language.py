@@ -40,17 +40,48 @@ def walk(kind):
 
 def bound_names():
     """All names that the package binds, with the file and the line."""
-    for stem, node in walk((ast.Name, ast.arg, ast.FunctionDef, ast.ClassDef, ast.ExceptHandler, ast.alias)):
+    for stem, node in walk((ast.Name, ast.arg, ast.FunctionDef, ast.ClassDef, ast.ExceptHandler, ast.alias, ast.MatchAs,
+                            ast.MatchStar)):
         if isinstance(node, ast.Name) and not isinstance(node.ctx, ast.Load):
             yield stem, node.lineno, node.id
         elif isinstance(node, ast.arg):
             yield stem, node.lineno, node.arg
-        elif isinstance(node, (ast.FunctionDef, ast.ClassDef, ast.ExceptHandler, ast.alias)) and node.name:
+        elif not isinstance(node, ast.Name) and node.name:
             yield stem, node.lineno, node.name
 
 
 def is_docstring(node):
     return isinstance(node, ast.Expr) and isinstance(node.value, ast.Constant) and isinstance(node.value.value, str)
+
+
+def choices(node):
+    """The names that an expression may stand for, as it is."""
+    if isinstance(node, ast.Name):
+        return {node.id}
+    if isinstance(node, ast.IfExp):
+        return choices(node.body) | choices(node.orelse)
+    if isinstance(node, ast.BoolOp):
+        return set().union(*[choices(value) for value in node.values])
+    return set()
+
+
+def same_objects(function):
+    """For each name of a function, the names that may stand for the same object by its assignments."""
+    groups = {}
+    for node in ast.walk(function):
+        if not isinstance(node, ast.Assign):
+            continue
+        for target in node.targets:
+            pairs = [(target, node.value)]
+            if isinstance(target, ast.Tuple) and isinstance(node.value, ast.Tuple):
+                pairs = list(zip(target.elts, node.value.elts))
+            for one, value in pairs:
+                joined = choices(one) | choices(value)
+                for name in list(joined):
+                    joined |= groups.get(name, set())
+                for name in joined:
+                    groups[name] = joined
+    return groups
 
 
 class FilesTest(unittest.TestCase):
@@ -227,6 +258,46 @@ class CodeTest(unittest.TestCase):
     def test_errors_are_made_on_the_spot(self):
         for stem, node in walk(ast.Raise):
             self.assertTrue(node.exc is None or isinstance(node.exc, ast.Call), (stem, node.lineno))
+
+    def test_nothing_gets_what_it_changes(self):
+        for stem, function in walk(ast.FunctionDef):
+            groups = same_objects(function)
+            for node in ast.walk(function):
+                target = value = None
+                if isinstance(node, ast.AugAssign):
+                    target, value = node.target, node.value
+                elif isinstance(node, ast.Call) and isinstance(node.func, ast.Attribute) and node.args:
+                    if node.func.attr in ("extend", "update"):
+                        target, value = node.func.value, node.args[0]
+                if isinstance(target, ast.Name):
+                    own = groups.get(target.id, {target.id})
+                    self.assertFalse(own & choices(value), (stem, node.lineno))
+
+    def test_what_is_walked_is_not_changed(self):
+        changing = ("append", "clear", "extend", "insert", "pop", "remove", "reverse", "setdefault", "update", "sort")
+        for stem, loop in walk(ast.For):
+            walked = {ast.unparse(node) for node in ast.walk(loop.iter) if isinstance(node, (ast.Name, ast.Attribute))}
+            for node in [inner for row in loop.body for inner in ast.walk(row)]:
+                if isinstance(node, ast.Subscript) and not isinstance(node.ctx, ast.Load):
+                    self.assertNotIn(ast.unparse(node.value), walked, (stem, node.lineno))
+                if isinstance(node, ast.Call) and isinstance(node.func, ast.Attribute) and node.func.attr in changing:
+                    self.assertNotIn(ast.unparse(node.func.value), walked, (stem, node.lineno))
+
+    def test_captured_names_are_nothing_else(self):
+        for stem, function in walk(ast.FunctionDef):
+            captured = {node.name for node in ast.walk(function) if isinstance(node, ast.MatchAs)}
+            for node in ast.walk(function):
+                if isinstance(node, ast.Name) and not isinstance(node.ctx, ast.Load):
+                    self.assertNotIn(node.id, captured, (stem, node.lineno))
+                if isinstance(node, ast.arg):
+                    self.assertNotIn(node.arg, captured, (stem, node.lineno))
+
+    def test_names_of_properties(self):
+        properties = {node.name for stem, node in walk(ast.FunctionDef) if node.decorator_list}
+        methods = {part.name for stem, node in walk(ast.ClassDef) for part in node.body
+                   if isinstance(part, ast.FunctionDef) and not part.decorator_list}
+        stored = {node.attr for stem, node in walk(ast.Attribute) if not isinstance(node.ctx, ast.Load)}
+        self.assertFalse(properties & (methods | stored | set(BUILTIN_METHODS)))
 
     def test_no_set_is_iterated(self):
         for stem, node in walk((ast.For, ast.comprehension)):

@@ -2,21 +2,27 @@
 
 import unittest
 
+from fieldberth.effects import effect, followed, lost, mate, same_effect, turned_back
 from fieldberth.layouts import struct, union
 from fieldberth.memories import Memory
+from fieldberth.programs import is_program, run
+from fieldberth.views import View
+
+HEADER = struct([
+    ("version", ("int", 1, False), 4),
+    ("length", ("int", 1, False), 4),
+    ("port", ("int", 2, False)),
+    (None, union([
+        ("word", ("int", 4, False)),
+        ("octets", ("array", ("int", 1, False), 4)),
+    ])),
+], convention="msvc", ends="big")
+PAIR = struct([("a", ("int", 2, False)), ("b", ("int", 2, False))])
 
 
 class ReadmeTest(unittest.TestCase):
     def test_the_header(self):
-        header = struct([
-            ("version", ("int", 1, False), 4),
-            ("length", ("int", 1, False), 4),
-            ("port", ("int", 2, False)),
-            (None, union([
-                ("word", ("int", 4, False)),
-                ("octets", ("array", ("int", 1, False), 4)),
-            ])),
-        ], convention="msvc", ends="big")
+        header = HEADER
         self.assertEqual(header.size, 8)
         self.assertEqual(header.paths()[:5], [("version",), ("length",), ("port",), ("word",), ("octets", 0)])
         self.assertEqual(header.berth(("length",)), ((0, 1, 2, 3), False))
@@ -29,6 +35,32 @@ class ReadmeTest(unittest.TestCase):
         memory[0] = 255
         memory.move(1, 0, 3)
         self.assertEqual(memory.octets(), [255, 255, 2, 3])
+
+    def test_the_view(self):
+        memory = Memory(10)
+        view = View(memory, HEADER, 2)
+        view.write(("length",), 21)
+        self.assertEqual(view.read(("length",)), 5)
+        view.part(("octets",)).write((3,), -1)
+        # The union has ends of its own: its word is a little one.
+        self.assertEqual(view.whole(), {"version": 0, "length": 5, "port": 0, "word": 255 << 24, "octets": [0, 0, 0, 255]})
+        view.copy_from(View(Memory(8), HEADER))
+        self.assertEqual(memory.octets(), [0] * 10)
+
+    def test_the_program(self):
+        program = [("set", ("a",), 258), ("copy", ("b",), ("a",)), ("shift", ("b",), 4), ("turn", ("a",)),
+                   ("swap", ("a",), ("b",)), ("move", 0, 3, 1)]
+        self.assertIs(is_program(PAIR, program), True)
+        self.assertEqual(run(PAIR, program, [0, 0, 0, 0]), [2, 16, 1, 2])
+
+    def test_the_effects(self):
+        swap, copy = [("swap", ("a",), ("b",))], [("copy", ("a",), ("b",))]
+        self.assertEqual(effect(PAIR, copy)[:2], [("bit", 16), ("bit", 17)])
+        self.assertEqual(followed(effect(PAIR, swap), effect(PAIR, copy)), effect(PAIR, swap + copy))
+        self.assertEqual(same_effect(PAIR, swap, copy), [0, 0, 0, 1])
+        self.assertEqual(lost(PAIR, copy), list(range(16)))
+        self.assertEqual(mate(PAIR, copy, [0, 0, 5, 5]), [0, 1, 5, 5])
+        self.assertEqual(turned_back(PAIR, swap), effect(PAIR, swap))
 
 
 if __name__ == "__main__":

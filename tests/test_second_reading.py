@@ -7,20 +7,7 @@ the package has a part in the second reading.
 import unittest
 
 from fieldberth.layouts import struct, union
-
-
-class Numbers:
-    """Numbers that look random and are the same in each run."""
-
-    def __init__(self, seed):
-        self.state = seed
-
-    def below(self, many):
-        self.state = (self.state * 6364136223846793005 + 1442695040888963407) % 2 ** 64
-        return (self.state >> 33) % many
-
-    def one_of(self, things):
-        return things[self.below(len(things))]
+from tests.plain import Numbers
 
 
 def made_up(numbers, depth, names):
