@@ -3,10 +3,14 @@
 import unittest
 
 from fieldberth.effects import effect, followed, lost, mate, same_effect, turned_back
+from fieldberth.facts import follows, has_facts, keeps, needed, possible
 from fieldberth.layouts import struct, union
 from fieldberth.memories import Memory
+from fieldberth.orders import least_order
 from fieldberth.programs import is_program, run
 from fieldberth.views import View
+from fieldberth.wishes import fits, least_program, readable, wish_of
+from fieldberth.writes import least_writes
 
 HEADER = struct([
     ("version", ("int", 1, False), 4),
@@ -61,6 +65,30 @@ class ReadmeTest(unittest.TestCase):
         self.assertEqual(lost(PAIR, copy), list(range(16)))
         self.assertEqual(mate(PAIR, copy, [0, 0, 5, 5]), [0, 1, 5, 5])
         self.assertEqual(turned_back(PAIR, swap), effect(PAIR, swap))
+
+    def test_the_wishes(self):
+        swap = [("swap", ("a",), ("b",))]
+        self.assertIs(fits(effect(PAIR, swap), effect(PAIR, swap)[:16] + [None] * 16), True)
+        self.assertEqual(least_program(PAIR, effect(PAIR, swap), 2), swap)
+        turned = struct([("b", ("int", 2, False)), ("a", ("int", 2, True))], ends="big")
+        wish = wish_of(PAIR, turned)
+        self.assertEqual(wish[:2] + wish[16:18], [("bit", 24), ("bit", 25), ("bit", 8), ("bit", 9)])
+        self.assertIsNone(least_program(PAIR, wish, 1))
+        self.assertEqual(readable(PAIR, turned), [])
+
+    def test_the_facts(self):
+        swap, seven, alike = [("swap", ("a",), ("b",))], [("is", ("a",), 7)], [("same", ("a",), ("b",))]
+        self.assertIs(has_facts(PAIR, [7, 0, 1, 0], seven), True)
+        self.assertEqual(possible(PAIR, seven + alike), [7, 0, 7, 0])
+        self.assertIsNone(keeps(PAIR, seven, swap, [("is", ("b",), 7)]))
+        self.assertEqual(keeps(PAIR, [], swap, [("is", ("b",), 7)]), [0, 0, 0, 0])
+        self.assertEqual(follows(PAIR, seven, swap), [("is", ("b",), 7)])
+        self.assertEqual(needed(PAIR, swap, alike), [None] * 16 + [("bit", bit) for bit in range(16)])
+
+    def test_the_order_and_the_writes(self):
+        byte, word = ("int", 1, True), ("int", 4, True)
+        self.assertEqual(least_order([("a", byte), ("b", word), ("c", byte)]), (8, [0, 2, 1]))
+        self.assertEqual(least_writes(PAIR, [1, 2, 3, 4], [1, 2, 0, 4]), [("b",)])
 
 
 if __name__ == "__main__":
