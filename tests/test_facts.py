@@ -494,6 +494,9 @@ class FollowsTest(Case):
             self.assertTrue(share_nothing(one, (before, program)))
             self.assertEqual(len(inner_rows(one)), len({id(row) for row in inner_rows(one)}))
             self.assertEqual((before, program), kept)
+        told = follows(MIXED, [("is", path, 5) for path in (A, B, C, D)], [])
+        self.assertEqual(len(told), 10)
+        self.assertEqual(len(inner_rows(told)), len({id(row) for row in inner_rows(told)}))
 
     def test_bad_facts(self):
         self.refused(lambda facts: follows(ONE, facts, []))
